@@ -1,0 +1,131 @@
+"""The rules of the Python subset that can be read off the files of the package."""
+
+import ast
+import builtins
+import pathlib
+import re
+import unittest
+
+PACKAGE = pathlib.Path(__file__).resolve().parent.parent / "wiresindark"
+FILES = sorted(PACKAGE.glob("*.py"))
+TREES = {path.stem: ast.parse(path.read_text(encoding="utf-8")) for path in FILES}
+LIBRARY = {
+    "heapq": "heappush heappop heapify heapreplace heappushpop".split(),
+    "math": "gcd lcm isqrt comb perm factorial".split(),
+    "itertools": "product combinations permutations chain accumulate pairwise islice zip_longest".split(),
+    "collections": ["defaultdict"],
+    "__future__": ["annotations"],
+}
+BUILTINS = (
+    "len range enumerate zip min max sum abs sorted reversed int str bool bytes list tuple dict set frozenset isinstance "
+    "ord repr any all divmod pow getattr hasattr setattr iter next map super Exception ValueError TypeError KeyError "
+    "IndexError LookupError ZeroDivisionError ArithmeticError OverflowError RuntimeError NotImplementedError "
+    "AttributeError StopIteration NotImplemented property staticmethod classmethod object float"
+).split()
+UNUSED_WORDS = (
+    "type typing typing_extensions enum Enum IntEnum StrEnum Flag IntFlag Generic Protocol ABC ABCMeta namedtuple "
+    "NamedTuple TypedDict TYPE_CHECKING abstractmethod"
+).split()
+SPECIAL = (
+    "init eq repr str len enter exit call iter lt le gt ge ne add sub mul floordiv mod pow and or xor lshift rshift "
+    "radd rsub rmul rfloordiv rmod rand ror rxor rlshift rrshift iadd isub imul ifloordiv imod ipow iand ior ixor "
+    "ilshift irshift neg pos invert abs bool contains getitem setitem"
+).split()
+# Generator expressions are allowed in a few places; the package does without them.
+FORBIDDEN_NODES = (
+    ast.Global, ast.AsyncFunctionDef, ast.AsyncFor, ast.AsyncWith, ast.Await, ast.Div, ast.MatMult, ast.GeneratorExp,
+)
+
+
+def nodes():
+    return [(name, node) for name, tree in TREES.items() for node in ast.walk(tree)]
+
+
+class LanguageTest(unittest.TestCase):
+    def test_the_folder_holds_plain_files_alone(self):
+        others = [path.name for path in PACKAGE.iterdir() if path not in FILES and path.name != "__pycache__"]
+        self.assertEqual(others, [])
+        self.assertIn("__init__", TREES)
+        for name in TREES:
+            self.assertRegex(name, r"\A(__init__|__main__|[a-z][a-z0-9_]*)\Z")
+            self.assertFalse(name != "__init__" and hasattr(builtins, name) or name.startswith("test"), name)
+
+    def test_sizes_and_characters(self):
+        for path in FILES:
+            text = path.read_text(encoding="utf-8")
+            with self.subTest(path.name):
+                self.assertRegex(text, r"\A[ -~\n]*\Z")
+                self.assertLessEqual(len(text.splitlines()), 399)
+                self.assertLessEqual(max(len(line) for line in text.splitlines()), 120)
+        for name, node in nodes():
+            if isinstance(node, ast.FunctionDef):
+                self.assertLessEqual(node.end_lineno - node.lineno + 1, 40, (name, node.name))
+
+    def test_imports(self):
+        for name, node in nodes():
+            if isinstance(node, ast.Import):
+                self.assertEqual((name, [part.name for part in node.names]), ("__main__", ["sys"]))
+            if isinstance(node, ast.ImportFrom):
+                with self.subTest(name, line=node.lineno):
+                    self.assertEqual(node.level, 0)
+                    self.assertTrue(all(part.asname is None for part in node.names))
+                    self.check_source(node.module, [part.name for part in node.names])
+
+    def check_source(self, module, names):
+        if module in LIBRARY:
+            self.assertLessEqual(set(names), set(LIBRARY[module]))
+            return
+        package, _, file = module.partition(".")
+        self.assertEqual(package, "wiresindark")
+        bound = []
+        for node in TREES[file].body:
+            if isinstance(node, (ast.FunctionDef, ast.ClassDef)):
+                bound.append(node.name)
+            if isinstance(node, ast.Assign):
+                bound.append(node.targets[0].id)
+        self.assertLessEqual(set(names), set(bound))
+
+    def test_module_level(self):
+        allowed = (ast.Import, ast.ImportFrom, ast.FunctionDef, ast.ClassDef, ast.Assign, ast.Expr)
+        for name, tree in TREES.items():
+            for place, node in enumerate(tree.body):
+                with self.subTest(name, line=node.lineno):
+                    self.assertIsInstance(node, allowed)
+                    self.assertTrue(not isinstance(node, ast.Expr) or place == 0 and ast.get_docstring(tree))
+
+    def decorators(self, node):
+        return {"property", "staticmethod", "classmethod", f"{node.name}.setter"}
+
+    def test_statements_and_decorators(self):
+        for name, node in nodes():
+            with self.subTest(name, line=getattr(node, "lineno", None)):
+                self.assertNotIsInstance(node, FORBIDDEN_NODES)
+                if isinstance(node, ast.FunctionDef):
+                    self.assertLessEqual({ast.unparse(mark) for mark in node.decorator_list}, self.decorators(node))
+                    if node.name.startswith("__"):
+                        self.assertIn(node.name, [f"__{word}__" for word in SPECIAL])
+                if isinstance(node, ast.Constant):
+                    self.assertNotIsInstance(node.value, (float, complex))
+
+    def test_names(self):
+        bound = [name for name in vars(builtins) if not name.startswith("_")]
+        for name, node in nodes():
+            with self.subTest(name, line=getattr(node, "lineno", None)):
+                if isinstance(node, ast.Name) and node.id in bound:
+                    self.assertIsInstance(node.ctx, ast.Load)
+                    self.assertIn(node.id, BUILTINS)
+                if isinstance(node, ast.arg):
+                    self.assertNotIn(node.arg, bound)
+                if isinstance(node, (ast.FunctionDef, ast.ClassDef)):
+                    self.assertNotIn(node.name, BUILTINS)
+
+    def test_words(self):
+        for name, node in nodes():
+            if isinstance(node, (ast.Name, ast.Attribute)):
+                self.assertNotIn(node.id if isinstance(node, ast.Name) else node.attr, UNUSED_WORDS)
+            if isinstance(node, ast.Constant) and isinstance(node.value, str):
+                self.assertFalse("%" in node.value or re.search(r"\A__.*__\Z", node.value), (name, node.lineno))
+
+
+if __name__ == "__main__":
+    unittest.main()

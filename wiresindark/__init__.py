@@ -1,0 +1,1 @@
+"""Wiresindark: what boards of dots with dead wires surely tell."""

@@ -1,0 +1,31 @@
+"""Tests that take any value and tell whether it is of a certain kind."""
+
+
+def is_integer(value):
+    """True and False are ints for Python, but no integers here."""
+    return isinstance(value, int) and not isinstance(value, bool)
+
+
+def is_pair(value):
+    return isinstance(value, tuple) and len(value) == 2
+
+
+def is_integer_pair(value):
+    return is_pair(value) and is_integer(value[0]) and is_integer(value[1])
+
+
+def is_word_and_integer(value):
+    return is_pair(value) and isinstance(value[0], str) and is_integer(value[1])
+
+
+def is_ascending(members):
+    """The members are all of a kind that has an order."""
+    return all([members[place] < members[place + 1] for place in range(len(members) - 1)])
+
+
+def are_numbers(value, many):
+    """Whether any value is an ascending tuple of integers from 0 to less than many."""
+    if not isinstance(value, tuple):
+        return False
+    # The order comes last: only integers can be compared with one another.
+    return all([is_integer(number) and 0 <= number < many for number in value]) and is_ascending(value)
