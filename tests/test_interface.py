@@ -4,9 +4,13 @@ import inspect
 import unittest
 
 from tests.values import NAMES
-from wiresindark import boards, errors, pictures
+from wiresindark import boards, errors, explaining, films, mixing, pictures, telling
 from wiresindark.boards import Board
+from wiresindark.explaining import Causes, explained, shows_explained, stair
+from wiresindark.films import Film, running, shown
+from wiresindark.mixing import mixed, shows_mixed
 from wiresindark.pictures import Dead, Picture, drawn
+from wiresindark.telling import expected, least_dead, surely, told
 
 SETS = "__or__ __and__ __sub__ __xor__ __len__ __contains__ __invert__ __eq__ is_within".split()
 
@@ -21,6 +25,8 @@ class InterfaceTest(unittest.TestCase):
             (Board, "__init__ __contains__ __len__ __invert__ __eq__".split()),
             (Picture, SETS + ["__init__"]),
             (Dead, SETS + ["__init__", "over", "under"]),
+            (Film, "__init__ __len__ __getitem__ __rshift__ __add__ __mul__ __eq__ shows".split()),
+            (Causes, "__init__ __len__ __getitem__ __contains__".split()),
         ]
         for kind, names in listed:
             for name in names:
@@ -29,7 +35,12 @@ class InterfaceTest(unittest.TestCase):
 
     def test_attributes_are_set_on_each_object(self):
         board = Board(("oo",))
+        film = Film((Picture(board),))
+        causes = Causes(film, ((0, Picture(board)),))
+        named = {"number": int, "always": Dead, "never": Dead, "first": Dead, "last": Dead, "blocks": tuple, "arrows": tuple}
         listed = [
+            (film, {"pictures": tuple, "board": Board}),
+            (causes, named),
             (board, {"rows": tuple, "height": int, "width": int, "dots": tuple, "wires": tuple, "is_full": bool}),
             (Picture(board), {"board": Board, "dots": tuple, "rows": tuple}),
             (Dead(board), {"board": Board, "rows": tuple, "columns": tuple, "wires": tuple, "dots": tuple}),
@@ -47,13 +58,47 @@ class InterfaceTest(unittest.TestCase):
         self.assertEqual(defaults(Picture), [("board", none), ("dots", ())])
         self.assertEqual(defaults(Dead), [("board", none), ("rows", ()), ("columns", ())])
         self.assertEqual(defaults(drawn), [("board", none), ("rows", none)])
-        for method in (Picture.is_within, Dead.is_within, Dead.over, Dead.under):
+        for method in (Picture.is_within, Dead.is_within, Dead.over, Dead.under, Film.shows):
             self.assertEqual(defaults(method), [("self", none), ("other", none)])
 
+    def test_parameters_of_functions(self):
+        wires, dying, k = ("alive", ()), ("dying", False), "k"
+        listed = [
+            (Film, ["pictures"], []),
+            (running, ["board", "strip"], []),
+            (shown, ["film", "looks", "dead"], []),
+            (explained, ["film", "seen"], [wires, dying]),
+            (shows_explained, ["film", "seen", "value"], [wires, dying]),
+            (Causes, ["film", "seen"], [wires, dying]),
+            (stair, ["film", "seen"], []),
+            (told, ["films", "seen", k], [dying]),
+            (least_dead, ["films", "seen"], [dying]),
+            (surely, ["films", "seen", k], [dying]),
+            (expected, ["films", "seen", k, "tick"], []),
+            (mixed, ["one", "other", "looks", k], []),
+            (shows_mixed, ["one", "other", "looks", k, "value"], []),
+        ]
+        for call, names, named in listed:
+            with self.subTest(call.__name__):
+                given = list(inspect.signature(call).parameters.values())
+                self.assertEqual(defaults(call), [(name, inspect.Parameter.empty) for name in names] + named)
+                kinds = [inspect.Parameter.POSITIONAL_OR_KEYWORD] * len(names)
+                self.assertEqual([part.kind for part in given], kinds + [inspect.Parameter.KEYWORD_ONLY] * len(named))
+
     def test_defined_where_they_are_listed(self):
-        for module, things in ((boards, [Board]), (pictures, [Picture, Dead, drawn])):
+        listed = [
+            (boards, [Board]),
+            (pictures, [Picture, Dead, drawn]),
+            (films, [Film, running, shown]),
+            (explaining, [explained, shows_explained, Causes, stair]),
+            (telling, [told, least_dead, surely, expected]),
+            (mixing, [mixed, shows_mixed]),
+        ]
+        for module, things in listed:
             for thing in things:
-                self.assertEqual(thing.__module__, module.__name__)
+                with self.subTest(thing.__name__):
+                    self.assertEqual(thing.__module__, module.__name__)
+                    self.assertIs(vars(module)[thing.__name__], thing)
 
 
 if __name__ == "__main__":

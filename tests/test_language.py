@@ -31,6 +31,11 @@ SPECIAL = (
     "radd rsub rmul rfloordiv rmod rand ror rxor rlshift rrshift iadd isub imul ifloordiv imod ipow iand ior ixor "
     "ilshift irshift neg pos invert abs bool contains getitem setitem"
 ).split()
+METHODS = (
+    "append clear copy count endswith extend find get index insert isalnum isalpha isdigit islower isspace isupper items "
+    "join keys ljust lower lstrip partition pop remove replace reverse rfind rjust rpartition rsplit rstrip setdefault "
+    "split splitlines startswith strip update upper values zfill bit_length"
+).split()
 # Generator expressions are allowed in a few places; the package does without them.
 FORBIDDEN_NODES = (
     ast.Global, ast.AsyncFunctionDef, ast.AsyncFor, ast.AsyncWith, ast.Await, ast.Div, ast.MatMult, ast.GeneratorExp,
@@ -125,6 +130,84 @@ class LanguageTest(unittest.TestCase):
                 self.assertNotIn(node.id if isinstance(node, ast.Name) else node.attr, UNUSED_WORDS)
             if isinstance(node, ast.Constant) and isinstance(node.value, str):
                 self.assertFalse("%" in node.value or re.search(r"\A__.*__\Z", node.value), (name, node.lineno))
+
+    def test_names_of_a_file_are_not_used_again(self):
+        for name, tree in TREES.items():
+            taken = [node.name for node in ast.walk(tree) if isinstance(node, ast.ClassDef)]
+            for node in tree.body:
+                if isinstance(node, ast.ImportFrom):
+                    taken += [part.name for part in node.names]
+            for node in ast.walk(tree):
+                if isinstance(node, ast.Name) and isinstance(node.ctx, ast.Store):
+                    self.assertNotIn(node.id, taken, (name, node.lineno))
+                if isinstance(node, ast.arg):
+                    self.assertNotIn(node.arg, taken, (name, node.lineno))
+
+    def test_names_of_a_file_are_bound_once(self):
+        for name, tree in TREES.items():
+            bound = []
+            for node in tree.body:
+                if isinstance(node, ast.ImportFrom):
+                    bound += [part.name for part in node.names]
+                if isinstance(node, (ast.FunctionDef, ast.ClassDef)):
+                    bound.append(node.name)
+                if isinstance(node, ast.Assign):
+                    bound += [target.id for target in node.targets]
+            self.assertEqual(sorted(bound), sorted(set(bound)), name)
+
+    def test_what_is_imported_is_used(self):
+        for name, tree in TREES.items():
+            used = {node.id for node in ast.walk(tree) if isinstance(node, ast.Name)}
+            for node in tree.body:
+                if isinstance(node, ast.ImportFrom):
+                    self.assertLessEqual({part.name for part in node.names}, used, name)
+
+    def test_no_circles_of_imports(self):
+        below = {name: set() for name in TREES}
+        for name, node in nodes():
+            if isinstance(node, ast.ImportFrom) and node.module.startswith("wiresindark."):
+                below[name].add(node.module.partition(".")[2])
+        while below:
+            free = [name for name, needs in below.items() if not needs]
+            self.assertTrue(free, below)
+            below = {name: needs - set(free) for name, needs in below.items() if name not in free}
+
+    def test_methods_and_attributes(self):
+        methods, stored = set(METHODS), set()
+        for _, node in nodes():
+            if isinstance(node, ast.ClassDef):
+                methods |= {part.name for part in node.body if isinstance(part, ast.FunctionDef)}
+            if isinstance(node, ast.Attribute) and isinstance(node.ctx, ast.Store):
+                stored.add(node.attr)
+        for name, node in nodes():
+            if isinstance(node, ast.Call) and isinstance(node.func, ast.Attribute):
+                self.assertIn(node.func.attr, methods, (name, node.lineno))
+            elif isinstance(node, ast.Attribute):
+                self.assertIn(node.attr, methods | stored, (name, node.lineno))
+
+    def test_classes_with_items_are_not_iterated(self):
+        for name, node in nodes():
+            if isinstance(node, ast.ClassDef):
+                methods = {part.name: part for part in node.body if isinstance(part, ast.FunctionDef)}
+                if "__getitem__" in methods:
+                    (statement,) = methods["__iter__"].body
+                    self.assertIsInstance(statement, ast.Raise, name)
+
+    def test_sets_stand_where_they_may(self):
+        """A set is made only directly in sorted or len, or joined there with others: narrower than rule L24."""
+        for name, tree in TREES.items():
+            allowed = set()
+            for node in ast.walk(tree):
+                if isinstance(node, ast.Call) and isinstance(node.func, ast.Name) and node.func.id in ("sorted", "len"):
+                    parts = [node.args[0]]
+                    while parts:
+                        part = parts.pop()
+                        allowed.add(id(part))
+                        parts += [part.left, part.right] if isinstance(part, ast.BinOp) else []
+            for node in ast.walk(tree):
+                made = isinstance(node, (ast.Set, ast.SetComp))
+                made = made or isinstance(node, ast.Call) and isinstance(node.func, ast.Name) and node.func.id == "set"
+                self.assertTrue(not made or id(node) in allowed, (name, getattr(node, "lineno", 0)))
 
 
 if __name__ == "__main__":

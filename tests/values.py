@@ -2,6 +2,8 @@
 
 from wiresindark import errors
 from wiresindark.boards import Board
+from wiresindark.explaining import Causes
+from wiresindark.films import Film
 from wiresindark.pictures import Dead, Picture
 
 NAMES = (
@@ -25,6 +27,9 @@ def objects():
         Picture(board, ((0, 0),)),
         Dead(board),
         Dead(board, (0,), (1,)),
+        Film((Picture(board),)),
+        Film((Picture(board), Picture(board, ((0, 0),)))),
+        Causes(Film((Picture(board),)), ((0, Picture(board)),)),
         errors.WireError(0),
         errors.BadDots(()),
     ]
