@@ -4,14 +4,25 @@ import inspect
 import unittest
 
 from tests.values import NAMES
-from wiresindark import boards, errors, explaining, films, mixing, pictures, telling
+from wiresindark import (
+    boards, books, desk, errors, explaining, films, journals, mixing, pictures, probes, strips, telling, texts, watch, watching,
+)
 from wiresindark.boards import Board
+from wiresindark.books import Book
+from wiresindark.desk import Desk
 from wiresindark.explaining import Causes, explained, shows_explained, stair
 from wiresindark.films import Film, running, shown
+from wiresindark.journals import read_journal
 from wiresindark.mixing import mixed, shows_mixed
 from wiresindark.pictures import Dead, Picture, drawn
+from wiresindark.strips import strips_alike
 from wiresindark.telling import expected, least_dead, surely, told
+from wiresindark.texts import read_seen, show_seen
+from wiresindark.watch import Watch
+from wiresindark.watching import choose, clear, mixups, most_dead, sure, wait
 
+BOOK_TEXT = "board\n  oo\nfilm a\n  dark 1"
+WATCH = "__init__ pass_by die mend look told surely expected undo redo tried copy journal __iadd__ __eq__".split()
 SETS = "__or__ __and__ __sub__ __xor__ __len__ __contains__ __invert__ __eq__ is_within".split()
 
 
@@ -27,6 +38,9 @@ class InterfaceTest(unittest.TestCase):
             (Dead, SETS + ["__init__", "over", "under"]),
             (Film, "__init__ __len__ __getitem__ __rshift__ __add__ __mul__ __eq__ shows".split()),
             (Causes, "__init__ __len__ __getitem__ __contains__".split()),
+            (Book, "__init__ __getitem__ __contains__ __eq__".split()),
+            (Watch, WATCH),
+            (Desk, "__init__ say".split()),
         ]
         for kind, names in listed:
             for name in names:
@@ -37,10 +51,18 @@ class InterfaceTest(unittest.TestCase):
         board = Board(("oo",))
         film = Film((Picture(board),))
         causes = Causes(film, ((0, Picture(board)),))
+        book = Book(BOOK_TEXT)
+        live = Watch(book, "a")
+        looks = {"tick": int, "dead": Dead, "seen": tuple, "seen_dying": tuple, "events": tuple}
         named = {"number": int, "always": Dead, "never": Dead, "first": Dead, "last": Dead, "blocks": tuple, "arrows": tuple}
         listed = [
             (film, {"pictures": tuple, "board": Board}),
             (causes, named),
+            (book, {"text": str, "board": Board, "signs": tuple, "names": tuple, "films": tuple}),
+            (live, {"book": Book, "name": str, "begin": int, **looks}),
+            (live.copy(), {"book": Book, "name": str, "begin": int, **looks}),
+            (read_journal(live.journal()), {"book": Book, "name": str, "begin": int, **looks}),
+            (Desk(live), {"watch": Watch}),
             (board, {"rows": tuple, "height": int, "width": int, "dots": tuple, "wires": tuple, "is_full": bool}),
             (Picture(board), {"board": Board, "dots": tuple, "rows": tuple}),
             (Dead(board), {"board": Board, "rows": tuple, "columns": tuple, "wires": tuple, "dots": tuple}),
@@ -77,6 +99,27 @@ class InterfaceTest(unittest.TestCase):
             (expected, ["films", "seen", k, "tick"], []),
             (mixed, ["one", "other", "looks", k], []),
             (shows_mixed, ["one", "other", "looks", k, "value"], []),
+            (strips_alike, ["board", "strip", "second", k], []),
+            (probes.probes, ["board", "offers", k], []),
+            (mixups, ["films", "looks", k], []),
+            (clear, ["films", "looks", k], []),
+            (Book, ["text"], []),
+            (Desk, ["watch"], []),
+            (Desk.say, ["self", "line"], []),
+            (show_seen, ["seen"], []),
+            (read_seen, ["board", "text"], []),
+            (read_journal, ["text"], []),
+            (Watch.die, ["self", "wire"], []),
+            (Watch.mend, ["self", "wire"], []),
+            (Watch.look, ["self"], []),
+            (Watch.told, ["self", k], [dying]),
+            (Watch.surely, ["self", k], [dying]),
+            (Watch.expected, ["self", k, "tick"], []),
+            (Watch.undo, ["self"], []),
+            (Watch.redo, ["self"], []),
+            (Watch.tried, ["self", "look"], [("keep", False)]),
+            (Watch.copy, ["self"], []),
+            (Watch.journal, ["self"], []),
         ]
         for call, names, named in listed:
             with self.subTest(call.__name__):
@@ -84,6 +127,18 @@ class InterfaceTest(unittest.TestCase):
                 self.assertEqual(defaults(call), [(name, inspect.Parameter.empty) for name in names] + named)
                 kinds = [inspect.Parameter.POSITIONAL_OR_KEYWORD] * len(names)
                 self.assertEqual([part.kind for part in given], kinds + [inspect.Parameter.KEYWORD_ONLY] * len(named))
+
+    def test_parameters_that_can_be_left_out(self):
+        none, parts = inspect.Parameter.empty, ("parts", None)
+        self.assertEqual(defaults(sure), [("films", none), ("looks", none), ("k", none), parts])
+        self.assertEqual(defaults(wait), [("films", none), ("k", none), parts])
+        self.assertEqual(defaults(most_dead), [("films", none), ("looks", none), parts])
+        self.assertEqual(defaults(choose), [("films", none), ("offers", none), ("k", none), parts])
+        self.assertEqual(defaults(Watch), [("book", none), ("name", none), ("begin", 0)])
+        self.assertEqual(defaults(Watch.pass_by), [("self", none), ("many", 1)])
+        for call in (sure, wait, most_dead, choose, Watch, Watch.pass_by):
+            kinds = [part.kind for part in inspect.signature(call).parameters.values()]
+            self.assertEqual(kinds, [inspect.Parameter.POSITIONAL_OR_KEYWORD] * len(kinds))
 
     def test_defined_where_they_are_listed(self):
         listed = [
@@ -93,6 +148,15 @@ class InterfaceTest(unittest.TestCase):
             (explaining, [explained, shows_explained, Causes, stair]),
             (telling, [told, least_dead, surely, expected]),
             (mixing, [mixed, shows_mixed]),
+            (watching, [sure, wait, most_dead, choose, mixups, clear]),
+            (strips, [strips_alike]),
+            (probes, [probes.probes]),
+            (books, [Book]),
+            (watch, [Watch]),
+            (texts, [show_seen, read_seen]),
+            (journals, [read_journal]),
+            (desk, [Desk]),
+            (errors, [errors.WireError] + [getattr(errors, name) for name in NAMES]),
         ]
         for module, things in listed:
             for thing in things:

@@ -193,6 +193,45 @@ class LanguageTest(unittest.TestCase):
                     (statement,) = methods["__iter__"].body
                     self.assertIsInstance(statement, ast.Raise, name)
 
+    def test_nothing_is_assigned_in_place(self):
+        """Rule L5 allows little of it where a class has an in-place operator; the package does without."""
+        for name, node in nodes():
+            self.assertNotIsInstance(node, (ast.AugAssign, ast.AnnAssign, ast.NamedExpr), name)
+
+    def test_names_of_the_library_are_only_called(self):
+        for name, tree in TREES.items():
+            taken = []
+            for node in tree.body:
+                if isinstance(node, ast.ImportFrom) and node.module in LIBRARY:
+                    taken += [part.name for part in node.names]
+            called = [id(node.func) for node in ast.walk(tree) if isinstance(node, ast.Call) and not node.keywords]
+            for node in ast.walk(tree):
+                if isinstance(node, ast.Name) and node.id in taken:
+                    self.assertIn(id(node), called, (name, node.lineno))
+
+    def test_errors_that_are_caught(self):
+        own = [node.name for node in TREES["errors"].body if isinstance(node, ast.ClassDef)]
+        for name, node in nodes():
+            if isinstance(node, ast.ExceptHandler):
+                self.assertIsInstance(node.type, ast.Name, name)
+                self.assertIn(node.type.id, own, (name, node.lineno))
+            if isinstance(node, ast.Raise) and name != "errors":
+                self.assertIsInstance(node.exc, ast.Call, (name, node.lineno))
+                self.assertIn(node.exc.func.id, own + ["TypeError"], (name, node.lineno))
+
+    def test_what_stands_in_finally(self):
+        simple = (ast.Name, ast.Attribute, ast.Tuple)
+        for name, node in nodes():
+            for statement in node.finalbody if isinstance(node, ast.Try) else []:
+                self.assertIsInstance(statement, ast.If, (name, statement.lineno))
+                self.assertEqual(ast.unparse(statement.test).split(" ", 1)[1], "is None")
+                for part in statement.body:
+                    self.assertIsInstance(part, ast.Assign, (name, part.lineno))
+                    self.assertEqual(len(part.targets), 1)
+                    self.assertTrue(isinstance(part.value, simple) and isinstance(part.targets[0], simple))
+                    inside = list(ast.walk(part.value)) + list(ast.walk(part.targets[0]))
+                    self.assertTrue(all(isinstance(one, simple + (ast.Load, ast.Store)) for one in inside))
+
     def test_sets_stand_where_they_may(self):
         """A set is made only directly in sorted or len, or joined there with others: narrower than rule L24."""
         for name, tree in TREES.items():

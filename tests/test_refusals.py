@@ -1,18 +1,22 @@
 """Wrong values for each parameter that accepts any value: alone, and several at once."""
 
 import itertools
+import re
 import unittest
 
 from tests.values import any_values, refused
 from wiresindark.boards import Board
 from wiresindark.errors import (
-    BadFilms, BadLooks, BadNumber, BadPictures, BadSeen, BadStrip, BadTick, BadWires, NoCause, OtherBoard,
+    BadFilms, BadLooks, BadNumber, BadOffers, BadParts, BadPictures, BadSeen, BadStrip, BadTick, BadWires, NoCause, OtherBoard,
 )
 from wiresindark.explaining import Causes, explained, shows_explained, stair
 from wiresindark.films import Film, running, shown
 from wiresindark.mixing import mixed, shows_mixed
 from wiresindark.pictures import Dead, Picture
+from wiresindark.probes import probes
+from wiresindark.strips import strips_alike
 from wiresindark.telling import expected, least_dead, surely, told
+from wiresindark.watching import choose, clear, mixups, most_dead, sure, wait
 
 BOARD = Board(("oo", "oo"))
 OTHER = Board(("oo", "o."))
@@ -64,6 +68,24 @@ def is_strip(value):
 def are_wires(value):
     good = is_row_of(value, lambda wire: type(wire) is tuple and wire in BOARD.wires and type(wire[1]) is int, 0, 4)
     return good and ascends(value)
+
+
+def is_name(value):
+    return type(value) is str and re.fullmatch("[a-z]{1,8}", value) is not None
+
+
+def are_parts(value):
+    """For FILM alone."""
+    return value is None or is_row_of(value, lambda names: is_row_of(names, is_name, 2, 2), 1, 1)
+
+
+def are_priced(value):
+    good = is_row_of(value, lambda pair: is_row_of(pair, is_number, 2, 2) and pair[1] <= 9, 1, 5)
+    return good and ascends(tuple(tick for tick, _ in value))
+
+
+def are_probes(value):
+    return is_row_of(value, lambda picture: type(picture) is Picture and picture.board == BOARD, 1, 6)
 
 
 def some_seen():
@@ -120,6 +142,35 @@ def some_strips():
     return [(), ((0,),) * 13, [(0,)], ([0],), ((2,),), ((1, 0),), ((0, 0),), ((True,),), ((False,),), (0,), ((0,), None)]
 
 
+def some_parts():
+    """Values that are nearly parts."""
+    return [
+        (), (("a",),), (("a", "b", "c"),), (("a", "b"), ("a", "b")), (("a", "b"), None), [("a", "b")], (["a", "b"],), ("a", "b"),
+        ("ab",), "ab", (("a", "B"),), (("a", ""),), (("", "a"),), (("abcdefghi", "a"),), (("a", 1),), (("a", None),), (("a", True),),
+        (("a", ("b",)),), (("a", "b c"),), (("a", "b\n"),), (("a", "b1"),), (("a", "\u00e9"),), ((("a",), ("b",)),), {0: ("a", "b")},
+        ({"a": 0, "b": 0},), (None,), ((),), ((), ("a", "b")), (("a", "_"),), (("a", "-"),), (("a", []),), False, (("a", "b"), ()),
+    ]
+
+
+def some_priced():
+    """Values that are nearly offers of looks."""
+    return [
+        (), tuple((tick, 1) for tick in range(6)), ((0, 1), (0, 2)), ((0, 1), (0, 1)), ((1, 0), (0, 0)), ((0, 10),), ((0, -1),),
+        ((-1, 0),), ((True, 0),), ((0, True),), ((0, False),), ((False, 0),), ((0, 1), (True, 2)), ((0, None),), ((None, 0),), (("0", 0),),
+        ((0, "0"),), ((0,),), ((0, 0, 0),), ([0, 0],), [(0, 0)], (0, 0), {0: 0}, ({0: 0},), ((0, 1), None), ((0, 1), (1,)), ((0, (1,)),),
+        (((0,), 1),), ((0, 1), (1, 10)), ((0, 1), (2, 1), (1, 1)), ((0, 999999999),), ((0, 1), 1), ((0, []),), (([], 0),),
+    ]
+
+
+def some_probes():
+    """Values that are nearly offers of pictures."""
+    dark = Picture(BOARD)
+    return [
+        (), (dark,) * 7, [dark], dark, (dark, Picture(OTHER)), (Picture(OTHER),), (dark, None), (None, dark), ((dark,),), dark.dots,
+        (FILM,), FILM.pictures + (FILM,), {0: dark}, (Dead(BOARD),), (dark, Dead(BOARD)), (dark.rows,), ((0, dark),), (BOARD,), (dark, [dark]),
+    ]
+
+
 def some_pictures():
     picture = Picture(BOARD)
     return [(), (picture,) * 13, [picture], (picture, Picture(OTHER)), (picture, None), (FILM,), ((picture,),), picture]
@@ -134,6 +185,12 @@ LOOKS_KIND = (BadLooks, are_looks, some_looks)
 TWENTY_KIND = (BadNumber, lambda value: is_number(value, 0, 20), lambda: some_numbers(20))
 FOUR_KIND = (BadNumber, lambda value: is_number(value, 0, 4), lambda: some_numbers(4))
 TICK_KIND = (BadTick, is_number, some_ticks)
+THREE_KIND = (BadNumber, lambda value: is_number(value, 0, 3), lambda: some_numbers(3))
+PARTS_KIND = (BadParts, are_parts, some_parts)
+PRICED_KIND = (BadOffers, are_priced, some_priced)
+PROBES_KIND = (BadOffers, are_probes, some_probes)
+STRIP_KIND = (BadStrip, is_strip, some_strips)
+PARTS = (("a", "abcdefgh"),)
 VALUE = ("explained", Dead(BOARD, (1,)), ())
 CALLS = [
     (explained, {"film": FILM, "seen": SEEN, "alive": ALIVE, "dying": False}, {"seen": SEEN_KIND, "alive": WIRES_KIND}),
@@ -149,7 +206,19 @@ CALLS = [
     (shows_mixed, {"one": FILM, "other": FILM, "looks": (0,), "k": 1, "value": ("mixed", Dead(BOARD), Dead(BOARD))},
      {"looks": LOOKS_KIND, "k": FOUR_KIND}),
     (shown, {"film": FILM, "looks": (0,), "dead": Dead(BOARD)}, {"looks": LOOKS_KIND}),
-    (running, {"board": BOARD, "strip": ((0,), ())}, {"strip": (BadStrip, is_strip, some_strips)}),
+    (running, {"board": BOARD, "strip": ((0,), ())}, {"strip": STRIP_KIND}),
+    (sure, {"films": (FILM,), "looks": (0, 2), "k": 1, "parts": PARTS},
+     {"films": FILMS_KIND, "looks": LOOKS_KIND, "k": FOUR_KIND, "parts": PARTS_KIND}),
+    (wait, {"films": (FILM,), "k": 1, "parts": PARTS}, {"films": FILMS_KIND, "k": FOUR_KIND, "parts": PARTS_KIND}),
+    (most_dead, {"films": (FILM,), "looks": (0, 2), "parts": PARTS},
+     {"films": FILMS_KIND, "looks": LOOKS_KIND, "parts": PARTS_KIND}),
+    (choose, {"films": (FILM,), "offers": ((0, 1), (3, 9)), "k": 1, "parts": PARTS},
+     {"films": FILMS_KIND, "offers": PRICED_KIND, "k": FOUR_KIND, "parts": PARTS_KIND}),
+    (mixups, {"films": (FILM,), "looks": (0, 2), "k": 1}, {"films": FILMS_KIND, "looks": LOOKS_KIND, "k": FOUR_KIND}),
+    (clear, {"films": (FILM,), "looks": (0, 2), "k": 1}, {"films": FILMS_KIND, "looks": LOOKS_KIND, "k": FOUR_KIND}),
+    (strips_alike, {"board": BOARD, "strip": ((0,), (0, 1)), "second": ((),), "k": 1},
+     {"strip": STRIP_KIND, "second": STRIP_KIND, "k": FOUR_KIND}),
+    (probes, {"board": BOARD, "offers": FILM.pictures, "k": 1}, {"offers": PROBES_KIND, "k": THREE_KIND}),
     (Film, {"pictures": FILM.pictures}, {"pictures": (BadPictures, are_pictures, some_pictures)}),
 ]
 
@@ -264,6 +333,17 @@ class RefusalTest(unittest.TestCase):
                     self.assertIsNotNone(expected(films, seen, k, 0))
                     self.assertIsNotNone(expected(films, seen, k, 999999999))
         for k in (0, 4):
+            for films in (six, (Film((dark,) * 12),) * 2):
+                for parts in (None, tuple(("a",) * len(film) for film in films)):
+                    self.assertIsNone(sure(films, (0,), k, parts))
+                    self.assertIsNone(sure(films, tuple(range(999999988, 1000000000)), k, parts))
+                    self.assertEqual(wait(films, k, parts), (0, None))
+                    self.assertEqual(most_dead(films, (0,), parts), (4, None))
+                    for many in (1, 5):
+                        offers = tuple((tick, 9 * (tick % 2)) for tick in range(many))
+                        self.assertEqual(choose(films, offers, k, parts), ("looks", (0,), 0, ()))
+                self.assertEqual(len(mixups(films, (0,), k)), len(films) * (len(films) - 1) // 2)
+                self.assertEqual(clear(films, (0,), k), (0,))
             self.assertEqual(mixed(six[0], six[0], tuple(range(12)), k)[0], "mixed")
         self.assertEqual(explained(six[0], twelve, alive=BOARD.wires), ("explained", Dead(BOARD), ()))
         self.assertEqual(explained(six[0], twelve, alive=()), ("explained", Dead(BOARD), ()))

@@ -2,9 +2,12 @@
 
 from wiresindark import errors
 from wiresindark.boards import Board
+from wiresindark.books import Book
+from wiresindark.desk import Desk
 from wiresindark.explaining import Causes
 from wiresindark.films import Film
 from wiresindark.pictures import Dead, Picture
+from wiresindark.watch import Watch
 
 NAMES = (
     "BadBoard BadDots BadRows BadColumns OtherBoard BadPictures BadTick TooLong BadStrip BadLooks BadSeen BadWires "
@@ -21,6 +24,7 @@ def nested(inner, wrap, depth=20):
 
 def objects():
     board = Board(("oo", "o."))
+    book = Book("board\n  oo\n  o.\nfilm a\n  dark 1")
     return [
         board,
         Picture(board),
@@ -30,6 +34,9 @@ def objects():
         Film((Picture(board),)),
         Film((Picture(board), Picture(board, ((0, 0),)))),
         Causes(Film((Picture(board),)), ((0, Picture(board)),)),
+        book,
+        Watch(book, "a"),
+        Desk(Watch(book, "a")),
         errors.WireError(0),
         errors.BadDots(()),
     ]
@@ -38,7 +45,7 @@ def objects():
 def plain_values():
     return [
         0, 1, -1, 2, 9, 10, 999999999, True, False, None,
-        "", "o", "oo", "#", "row", "column", "rows\n",
+        "", "o", "oo", "#", "row", "column", "rows\n", "a", "b", "0", "look", "board", "abcdefgh",
         (), (0,), (1,), (True,), (False,), (None,), ("",), ("o",), (0, 0), (0, 0, 0), (True, False), ("row", 0),
         ("row", True), ((),), (([],),), ({},), ((0, 0),), ((False, False),), ((0, True),), ([0, 0],), ("o", 0), (0, "o"),
         [], [0], ["o"], [0, 0], ["row", 0], [(0, 0)], [[]], [{}],

@@ -91,13 +91,18 @@ def are_films(value):
     return sum([len(film.pictures) for film in value]) <= MOST_TOGETHER
 
 
-def _is_strip(board, value):
+def truths_of(films):
+    """All pairs (number, begin), ascending: this film runs, begun at this one of its pictures."""
+    return [(number, begin) for number in range(len(films)) for begin in range(len(films[number]))]
+
+
+def is_strip(board, value):
     if not isinstance(value, tuple) or not 1 <= len(value) <= MOST_PICTURES:
         return False
     return all([are_numbers(column, board.height) for column in value])
 
 
-def _strip_at(board, strip, tick):
+def strip_at(board, strip, tick):
     """The picture of board when so many columns of strip have run out at the left."""
     lit = [(row, column) for row, column in board.dots if row in strip[(column + tick) % len(strip)]]
     return Picture(board, tuple(lit))
@@ -105,9 +110,9 @@ def _strip_at(board, strip, tick):
 
 def running(board, strip):
     """The film of a text that runs to the left."""
-    if not _is_strip(board, strip):
+    if not is_strip(board, strip):
         raise BadStrip(strip)
-    return Film(tuple([_strip_at(board, strip, tick) for tick in range(len(strip))]))
+    return Film(tuple([strip_at(board, strip, tick) for tick in range(len(strip))]))
 
 
 def shown(film, looks, dead):

@@ -5,7 +5,7 @@ from wiresindark.errors import BadLooks, BadNumber
 from wiresindark.films import need_board_of, shown
 from wiresindark.kinds import are_looks, has_form, is_ascending, is_integer_pair, is_number_to
 from wiresindark.pictures import Dead
-from wiresindark.sights import wires_at
+from wiresindark.sights import dead_of_wires, wires_at
 
 MOST_WIRES = 4
 NOTHING = ((), ())
@@ -88,10 +88,12 @@ def _split(duties, taken, side, dot):
     return "apart", ("split", side, dot, trees[0], trees[1])
 
 
-def _dead_of(board, wires):
-    rows = sorted([number for kind, number in wires if kind == "row"])
-    columns = sorted([number for kind, number in wires if kind == "column"])
-    return Dead(board, tuple(rows), tuple(columns))
+def alike_by(one, other, looks, k):
+    """Two Deads by which the films look alike, None if there are none. Here there can be any number of looks."""
+    word, found = _search(Duties(one, other, looks, k), NOTHING)
+    if word == "apart":
+        return None
+    return dead_of_wires(one.board, found[0]), dead_of_wires(one.board, found[1])
 
 
 def mixed(one, other, looks, k):
@@ -100,7 +102,7 @@ def mixed(one, other, looks, k):
     word, found = _search(Duties(one, other, looks, k), NOTHING)
     if word == "apart":
         return ("apart", found)
-    return ("mixed", _dead_of(one.board, found[0]), _dead_of(one.board, found[1]))
+    return ("mixed", dead_of_wires(one.board, found[0]), dead_of_wires(one.board, found[1]))
 
 
 def _is_dead(board, k, value):

@@ -2,7 +2,7 @@
 
 from wiresindark.ascending import in_one_alone
 from wiresindark.kinds import are_looks, is_ascending, is_pair, is_word_and_integer
-from wiresindark.pictures import Picture
+from wiresindark.pictures import Dead, Picture
 
 
 def are_seen(board, value):
@@ -12,6 +12,13 @@ def are_seen(board, value):
     if not are_looks(tuple([look[0] for look in value])):
         return False
     return all([isinstance(look[1], Picture) and look[1].board == board for look in value])
+
+
+def are_seen_somewhere(value):
+    """Whether any value is a tuple of pairs (tick, picture) that can be seen on any board."""
+    if not isinstance(value, tuple) or not value or not is_pair(value[0]):
+        return False
+    return isinstance(value[0][1], Picture) and are_seen(value[0][1].board, value)
 
 
 def are_wires(board, value):
@@ -26,6 +33,12 @@ def wires_at(dot):
     """The wires at which a dot hangs."""
     row, column = dot
     return ("row", row), ("column", column)
+
+
+def dead_of_wires(board, wires):
+    rows = sorted([number for kind, number in wires if kind == "row"])
+    columns = sorted([number for kind, number in wires if kind == "column"])
+    return Dead(board, tuple(rows), tuple(columns))
 
 
 def _wires_lit(picture):

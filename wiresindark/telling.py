@@ -3,7 +3,7 @@
 from wiresindark.bits import all_wires, bits_of, dead_of, in_any, in_each, size_of, without
 from wiresindark.demands import explaining_sets
 from wiresindark.errors import BadFilms, BadNumber, BadSeen, BadTick
-from wiresindark.films import are_films
+from wiresindark.films import are_films, truths_of
 from wiresindark.kinds import is_number_to, is_tick
 from wiresindark.pictures import Picture
 from wiresindark.sights import Sight, are_seen
@@ -23,14 +23,10 @@ def _need_number(k):
         raise BadNumber(k)
 
 
-def _truths(films):
-    return [(number, begin) for number in range(len(films)) for begin in range(len(films[number]))]
-
-
 def _ways(films, sight, k):
     """(number, begin, sets) for each truth that some sets of at most k wires explain."""
     found = []
-    for number, begin in _truths(films):
+    for number, begin in truths_of(films):
         sets = explaining_sets(films[number] >> begin, sight, k)
         if sets:
             found.append((number, begin, sets))
